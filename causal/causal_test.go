@@ -299,7 +299,7 @@ func TestLen(t *testing.T) {
 
 // P18.1, P18.2: as the plain buffer does, whatever comes with whatever vector.
 func TestAsThePlainOne(t *testing.T) {
-	for seed := range dice(300) {
+	for seed := range dice(120) {
 		s := seed
 		b, p := New(), plain{}
 		l := append(world(&s, 2+s.roll(4), pick(&s, 60, 300)), wrongEvents()[:3]...)
